@@ -1,0 +1,1 @@
+"""Scooprow: carriers that sweep a row of boxes, in closed form."""

@@ -1,0 +1,105 @@
+"""What several tests use: values of any kind, rows to try, and slow sweeps, box by box."""
+
+import random
+
+from scooprow.errors import BadIndex, BadName
+from scooprow.rows import Row
+
+FAR = 10 ** 30
+
+
+def is_integer(value):
+    return type(value) is int
+
+
+def nested(depth, wrap):
+    value = 1
+    for _ in range(depth):
+        value = wrap(value)
+    return value
+
+
+def any_values():
+    """New values of every kind that may be handed in."""
+    return [
+        None, True, False, 0, 1, -1, 2, 61, 100, 10 ** 3999, -10 ** 3999,
+        "", "0", "contents", "a\nb", "(0, 1)",
+        [], (), {}, [0], (0,), (1, 1), (0, 1), [0, 1], (0, 1, 2), (1, True), (True, 1), (2, False),
+        ("1", 0), (1, "0"), (None, None), ((1, 0), (1, 0)),
+        [(0, 1)], ((0, 1),), [[0, 1]], [(0, 1), (0, 1)], [(0, 1), 3], [(0, True)], [(False, 1)],
+        [(0, [])], [([], 0)], [({}, {})], [(0, 2)], [(0, 2), (60, 9)], ((1, 2), (-60, 3)),
+        [Row()], [(Row(), Row())], {0: 1}, {0: 2}, {(0, 1): 2}, {"a": [1, (2,), {}]},
+        nested(20, lambda value: [value]), nested(20, lambda value: (value,)),
+        nested(20, lambda value: {1: value}),
+        Row(), Row([(0, 1)]), Row([(0, 2)], [(0, 3)]), BadIndex("index"), BadName("name"),
+    ]
+
+
+def no_integers():
+    return [value for value in any_values() if not is_integer(value)]
+
+
+def no_carrier_capacities():
+    return [value for value in any_values() if not is_integer(value) or not 1 <= value <= 99]
+
+
+def random_row(source, wide_boxes, spread):
+    """A row with at most 12 items near the middle and so many wide boxes."""
+    places = source.sample(range(-spread, spread + 1), wide_boxes)
+    capacities = [(place, source.randint(2, 9)) for place in places]
+    wide = dict(capacities)
+    contents = []
+    for place in source.sample(range(-spread - 3, spread + 4), source.randint(0, spread + 3)):
+        count = source.randint(0, wide.get(place, 1))
+        if count and len(contents) < 12 and sum(part[1] for part in contents) + count <= 40:
+            contents.append((place, count))
+    return Row(contents, capacities)
+
+
+def sample_rows():
+    """Many rows of every kind, always the same ones."""
+    source = random.Random(20)
+    rows = [
+        Row(), Row((), [(0, 2), (1, 9)]), Row([(0, 1)]), Row([(-1, 1), (0, 1), (1, 1), (5, 1)]),
+        Row([(index, 1) for index in range(40)]),
+        Row([(index, 1) for index in range(0, 80, 2)]),
+        Row([(-60, 2), (60, 9)], [(-60, 2), (60, 9)]),
+        Row([(0, 5), (1, 5), (2, 5)], [(0, 5), (1, 5), (2, 5)]),
+        Row([(0, 9), (1, 1), (2, 3)], [(0, 9), (1, 2), (2, 3), (3, 9), (4, 4), (5, 2)]),
+    ]
+    for wide_boxes in (0, 0, 1, 1, 2, 3, 6):
+        for spread in (4, 7, 10):
+            rows.extend(random_row(source, wide_boxes, spread) for _ in range(4))
+    return rows
+
+
+def far_rows():
+    """Rows with items and wide boxes too far apart to go through the boxes between."""
+    return [
+        Row([(-FAR, 1), (-FAR + 1, 1), (FAR, 1)]),
+        Row([(-FAR, 1), (0, 3), (1, 1), (FAR - 1, 1), (FAR, 1)], [(0, 4), (1, 2)]),
+        Row([(-FAR, 1), (-FAR + 2, 1), (-60, 2), (60, 9)], [(-60, 2), (60, 9)]),
+        Row([(FAR, 1)], [(-60, 9), (60, 9)]),
+        Row([(-FAR, 1)], [(-60, 9), (0, 2), (60, 9)]),
+        Row([(10 ** 3999, 1), (-10 ** 3999, 1)], [(3, 3)]),
+    ]
+
+
+def slow_steps(row, capacity):
+    """All steps of a sweep over all boxes from far in front to far behind; no far rows."""
+    indexes = [index for index, _ in row.contents + row.capacities] + [0]
+    steps = []
+    load = 0
+    for index in range(min(indexes) - 2, max(indexes) + 50):
+        count = row.held(index)
+        up = min(capacity - load, count)
+        down = min(load, row.capacity(index) - count)
+        steps.append((index, load, count, load + up - down, count - up + down))
+        load = load + up - down
+    assert load == 0
+    return steps
+
+
+def slow_sweep(row, capacity):
+    steps = slow_steps(row, capacity)
+    return Row([(step[0], step[4]) for step in steps if step[4]], row.capacities)
