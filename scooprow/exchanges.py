@@ -1,7 +1,7 @@
 """Exchanges: two adjacent holders change places, and wide boxes move through a row."""
 
 from scooprow.errors import BadHolder, BadIndex, BadRow
-from scooprow.rows import FIRST_WIDE_INDEX, Row, is_between, is_pair, is_row_like
+from scooprow.rows import FIRST_WIDE_INDEX, Row, is_between, is_pair, is_plain_row, is_row_like
 from scooprow.sweeps import is_capacity, passed, sweep, unsweep
 
 
@@ -64,7 +64,7 @@ def _with_box(contents, index, capacity):
 
 def with_capacities(row, capacities):
     """The row with these capacities whose plain form is row."""
-    if not isinstance(row, Row) or not row.is_plain():
+    if not is_plain_row(row):
         raise BadRow("plain")
     if not is_row_like((), capacities):
         raise BadRow("capacities")

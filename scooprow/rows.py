@@ -108,3 +108,8 @@ class Row:
     def __eq__(self, other):
         return (isinstance(other, Row) and self._contents == other._contents
                 and self._capacities == other._capacities)
+
+
+def is_plain_row(value):
+    """Whether value is a row without wide boxes."""
+    return isinstance(value, Row) and value.is_plain()

@@ -11,14 +11,18 @@ def is_capacity(value):
     return is_between(value, 1, GREATEST_CAPACITY)
 
 
+def handled(capacity, load, box_capacity, count):
+    """How many items a carrier picks up at a box and how many it puts down."""
+    return (min(capacity - load, count), min(load, box_capacity - count))
+
+
 def passed(capacity, load, box_capacity, count):
     """The pair (new count, new load) when a carrier passes a box."""
     if not is_capacity(capacity) or not is_between(load, 0, capacity):
         raise BadNumber("the carrier's capacity or load is not valid")
     if not is_capacity(box_capacity) or not is_between(count, 0, box_capacity):
         raise BadNumber("the box's capacity or count is not valid")
-    up = min(capacity - load, count)
-    down = min(load, box_capacity - count)
+    up, down = handled(capacity, load, box_capacity, count)
     return (count - up + down, load + up - down)
 
 
@@ -62,7 +66,8 @@ def sweep(row, capacity):
     return Row(_left_by(trace(row, capacity)), row.capacities)
 
 
-def _mirrored(row):
+def mirrored(row):
+    """The row with left and right exchanged: the box at index stands at -index."""
     contents = [(-index, count) for index, count in row.contents]
     return Row(contents, [(-index, capacity) for index, capacity in row.capacities])
 
@@ -70,7 +75,7 @@ def _mirrored(row):
 def unsweep(row, capacity):
     """The row whose sweep this row is."""
     # Passing a box undoes itself, so going back is a sweep from right to left.
-    return _mirrored(sweep(_mirrored(row), capacity))
+    return mirrored(sweep(mirrored(row), capacity))
 
 
 def picked(row, capacity):

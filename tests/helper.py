@@ -4,6 +4,7 @@ import random
 
 from scooprow.errors import BadIndex, BadName
 from scooprow.rows import Row
+from scooprow.sweeps import sweep, unsweep
 
 FAR = 10 ** 30
 
@@ -41,6 +42,10 @@ def no_integers():
 
 def no_carrier_capacities():
     return [value for value in any_values() if not is_integer(value) or not 1 <= value <= 99]
+
+
+def no_plain_rows():
+    return [value for value in any_values() if not isinstance(value, Row) or value.capacities]
 
 
 def random_row(source, wide_boxes, spread):
@@ -103,3 +108,20 @@ def slow_steps(row, capacity):
 def slow_sweep(row, capacity):
     steps = slow_steps(row, capacity)
     return Row([(step[0], step[4]) for step in steps if step[4]], row.capacities)
+
+
+def swept(row, capacity, many):
+    """The row after so many sweeps, one by one, inverse ones if many is negative."""
+    for _ in range(abs(many)):
+        row = sweep(row, capacity) if many > 0 else unsweep(row, capacity)
+    return row
+
+
+def is_sorted_row(row):
+    """Whether a plain row is sorted, by the definition."""
+    full = [index for index, _ in row.contents]
+    firsts = [index for index in full if index - 1 not in full]
+    lasts = [index for index in full if index + 1 not in full]
+    lengths = [last - first + 1 for first, last in zip(firsts, lasts)]
+    gaps = [first - last - 1 for first, last in zip(firsts[1:], lasts)]
+    return lengths == sorted(lengths) and all(gap >= length for gap, length in zip(gaps, lengths))

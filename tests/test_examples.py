@@ -28,6 +28,39 @@ EXAMPLES = {
 >>> plain_form(Row([(-1, 1), (0, 1)], [(0, 2)])).contents
 ((-2, 1), (-1, 1))
 """,
+    "Part 4": """
+>>> from scooprow.rows import Row
+>>> from scooprow.trains import row_of, trains
+>>> trains(Row([(0, 1), (1, 1), (3, 1)]))
+[(1, 1), (2, 0)]
+>>> row_of([(2, 2), (1, 2)]).contents
+((2, 1), (4, 1), (5, 1))
+""",
+    "Part 5, advance": """
+>>> from scooprow.advance import advance, picked_in_all
+>>> from scooprow.rows import Row
+>>> row = Row([(0, 1), (1, 1), (3, 1)])
+>>> advance(row, {9: 100}).contents
+((101, 1), (202, 1), (203, 1))
+>>> picked_in_all(row, {9: -1, 1: 2})
+{1: 4, 9: -3}
+""",
+    "Part 5, times": """
+>>> from scooprow.rows import Row
+>>> from scooprow.times import given_up, seen
+>>> row = Row([(0, 1), (1, 1)])
+>>> (seen(row, 9, 4), seen(row, 1, 4), given_up(row, 1, 4))
+([(2, 1)], [(3, 1), (4, 1)], 1)
+""",
+    "Part 6": """
+>>> from scooprow.rows import Row
+>>> from scooprow.walks import Walk
+>>> walk = Walk(Row([(0, 1)]), [1, 2])
+>>> (walk.step(0), walk.step(1), walk.swap(0))
+((1, 0), (0, 0), None)
+>>> (walk.at(0), walk.at(1), walk.ended().contents)
+((1, 2, 1), (1, 1, 0), ((2, 1),))
+""",
 }
 
 

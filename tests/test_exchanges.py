@@ -1,7 +1,7 @@
 import itertools
 import unittest
 
-from helper import FAR, any_values, far_rows, is_integer, sample_rows
+from helper import FAR, any_values, far_rows, is_integer, no_plain_rows, sample_rows
 from scooprow.errors import BadHolder, BadIndex, BadRow
 from scooprow.exchanges import exchanged, plain_form, shifted, with_capacities
 from scooprow.rows import Row, is_row_like
@@ -202,9 +202,7 @@ class WithCapacitiesTest(unittest.TestCase):
         self.assertEqual(after, expected)
 
     def test_refused_rows_before_refused_capacities(self):
-        no_plain_rows = [value for value in any_values()
-                         if not isinstance(value, Row) or not value.is_plain()]
-        for value in no_plain_rows + [Row((), [(0, 2)])]:
+        for value in no_plain_rows() + [Row((), [(0, 2)])]:
             for capacities in ([], [(0, 2)], [(0, 1)], None):
                 with self.assertRaises(BadRow) as caught:
                     with_capacities(value, capacities)

@@ -16,6 +16,18 @@ SIGNATURES = {
                "halfway": "(row, capacity, index)", "trace": "(row, capacity)"},
     "exchanges": {"exchanged": "(left, right)", "shifted": "(row, index)", "plain_form": "(row)",
                   "with_capacities": "(row, capacities)"},
+    "trains": {"cut": "(row)", "trains": "(row)", "lengths": "(row)",
+               "row_of": "(trains, capacities=())"},
+    "advance": {"advance": "(row, counts)", "picked_in_all": "(row, counts)",
+                "sorted_after": "(row)", "runs": "(row)"},
+    "times": {"seen": "(row, capacity, index)", "given_up": "(row, capacity, index)"},
+    "walks": {"Walk": "(row, capacities)"},
+}
+METHODS = {
+    ("rows", "Row"): {"held": "(self, index)", "capacity": "(self, index)", "total": "(self)",
+                      "is_plain": "(self)", "__eq__": "(self, other)"},
+    ("walks", "Walk"): {"step": "(self, k)", "swap": "(self, k)", "at": "(self, k)", "now": "(self)",
+                        "ended": "(self)", "copy": "(self)"},
 }
 LIBRARY = ["heapq", "math", "itertools", "collections"]
 
@@ -37,7 +49,7 @@ class InterfaceTest(unittest.TestCase):
     def test_only_the_files_of_the_interface(self):
         names = {path.stem for path in source_files()}
         self.assertLessEqual(names, {"__init__"} | set(MODULES))
-        self.assertLessEqual({"__init__", "errors", "rows", "sweeps", "exchanges"}, names)
+        self.assertLessEqual({"__init__", "errors"} | set(SIGNATURES), names)
 
     def test_definitions_stand_in_their_file(self):
         for module, signatures in SIGNATURES.items():
@@ -49,13 +61,15 @@ class InterfaceTest(unittest.TestCase):
                 self.assertEqual(str(inspect.signature(getattr(found, name))), signature)
 
     def test_methods_stand_in_the_class(self):
+        for (module, name), methods in METHODS.items():
+            found = vars(getattr(importlib.import_module("scooprow." + module), name))
+            for method, signature in methods.items():
+                self.assertEqual(str(inspect.signature(found[method])), signature)
+
+    def test_properties_stand_in_the_class(self):
         row_class = importlib.import_module("scooprow.rows").Row
-        self.assertLessEqual({"contents", "capacities", "held", "capacity", "total", "is_plain", "__eq__"},
-                             set(vars(row_class)))
         for name in ("contents", "capacities"):
             self.assertIsInstance(vars(row_class)[name], property)
-        self.assertEqual(str(inspect.signature(row_class.held)), "(self, index)")
-        self.assertEqual(str(inspect.signature(row_class.capacity)), "(self, index)")
 
     def test_imports_only_from_earlier_modules(self):
         for path in source_files():
