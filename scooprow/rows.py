@@ -36,6 +36,26 @@ def are_pairs(value):
     return len({first for first, _ in value}) == len(value)
 
 
+def ascends(values):
+    """Whether each of these integers is greater than the one before it."""
+    return all([value < following for value, following in zip(values, values[1:])])
+
+
+def is_same(value, expected):
+    """Whether value is what is expected, of integers, strings and tuples of these.
+
+    It is asked of values that are judged, where 1 and True, or a list and a
+    tuple, are not the same.
+    """
+    if isinstance(expected, tuple):
+        if not isinstance(value, tuple) or len(value) != len(expected):
+            return False
+        return all([is_same(part, wanted) for part, wanted in zip(value, expected)])
+    if isinstance(expected, str):
+        return isinstance(value, str) and value == expected
+    return is_integer(value) and value == expected
+
+
 def _is_wide_box(index, capacity):
     if not is_between(index, FIRST_WIDE_INDEX, LAST_WIDE_INDEX):
         return False

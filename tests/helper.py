@@ -2,9 +2,11 @@
 
 import random
 
+from scooprow.advance import advance
 from scooprow.errors import BadIndex, BadName
 from scooprow.rows import Row
 from scooprow.sweeps import sweep, unsweep
+from scooprow.trains import row_of, trains
 
 FAR = 10 ** 30
 
@@ -46,6 +48,34 @@ def no_carrier_capacities():
 
 def no_plain_rows():
     return [value for value in any_values() if not isinstance(value, Row) or value.capacities]
+
+
+def changes(value):
+    """Values that differ from this one in one part, at any depth: in its kind, worth or place."""
+    if value in (0, 1) and is_integer(value):
+        yield bool(value)
+    if is_integer(value):
+        yield from (value + 1, value - 1, value + FAR, str(value), None, (value,))
+    elif isinstance(value, str):
+        yield from (value + "s", value[:-1], value.upper(), 0, None, (value,))
+    elif isinstance(value, Row):
+        yield from (Row(value.contents[1:] if value.contents else [(0, 1)], value.capacities),
+                    value.contents, None)
+    elif isinstance(value, (tuple, list)):
+        yield from changes_of_parts(value)
+
+
+def changes_of_parts(value):
+    kind = type(value)
+    if kind is tuple:
+        yield list(value)
+    yield from (None, {}, value + kind([0]), value + kind([()]), kind([value]))
+    for k, part in enumerate(value):
+        yield value[:k] + value[k + 1:]
+        yield value[:k] + kind([part]) + value[k:]
+        yield value[:k] + value[k:k + 2][::-1] + value[k + 2:]
+        for other in changes(part):
+            yield value[:k] + kind([other]) + value[k + 1:]
 
 
 def random_row(source, wide_boxes, spread):
@@ -108,6 +138,27 @@ def slow_steps(row, capacity):
 def slow_sweep(row, capacity):
     steps = slow_steps(row, capacity)
     return Row([(step[0], step[4]) for step in steps if step[4]], row.capacities)
+
+
+def with_offsets(row, moved):
+    """The row whose trains have the offsets moved(position among all, length, offset)."""
+    found = [(length, moved(k, length, offset)) for k, (length, offset) in enumerate(trains(row))]
+    return row_of(found, row.capacities)
+
+
+def pairs_of_rows(source, rows):
+    """For each row some others with the same capacities: led to by sweeps, or otherwise alike, or not."""
+    for row in rows:
+        most = source.choice((1, 3, FAR))
+        counts = {capacity: source.randint(-most, most) for capacity in (1, 2, 3, 5, 8, 40)}
+        positive = {capacity: abs(many) for capacity, many in counts.items()}
+        by_length = {length: source.randint(-most, most) for length in range(1, 41)}
+        yield row, row
+        yield row, advance(row, counts)
+        yield row, advance(row, positive)
+        yield row, with_offsets(row, lambda k, length, offset: offset + by_length[length])
+        yield row, with_offsets(row, lambda k, length, offset: offset + by_length[length] + (k % 3 == 2))
+        yield row, Row(row.contents[:-1], row.capacities)
 
 
 def swept(row, capacity, many):

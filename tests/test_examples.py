@@ -1,7 +1,10 @@
-"""The examples of the document, as it writes them."""
+"""The examples of the document, as it writes them, and those of README.md."""
 
 import doctest
+import pathlib
 import unittest
+
+README = pathlib.Path(__file__).resolve().parent.parent / "README.md"
 
 EXAMPLES = {
     "Part 1": """
@@ -61,18 +64,49 @@ EXAMPLES = {
 >>> (walk.at(0), walk.at(1), walk.ended().contents)
 ((1, 2, 1), (1, 1, 0), ((2, 1),))
 """,
+    "Part 7": """
+>>> from scooprow.connecting import connect, least_number
+>>> from scooprow.rows import Row
+>>> one = Row([(0, 1), (5, 1)])
+>>> (connect(one, Row([(0, 1), (1, 1)])), connect(one, Row([(1, 1), (7, 1)])))
+(('length', 1), ('apart', 1, 1))
+>>> (connect(Row([(3, 1)]), Row([(0, 1)]), backward=False), least_number(Row([(0, 1), (1, 1)]), Row([(5, 1), (6, 1)])))
+(('falling', 0, 1), 3)
+""",
+    "Part 8": """
+>>> from scooprow.carriers import is_bar, led_by, loops
+>>> from scooprow.rows import Row
+>>> one, other = Row([(0, 1), (1, 1)]), Row([(3, 1), (4, 1)])
+>>> (led_by(one, other, [2])[0], is_bar(one, other, [2], ("barred", 2, ((2, 1),))), led_by(one, other, [1]))
+('barred', True, ('sweeps', {1: 3}))
+>>> len(loops(one, [1, 2, 5]))
+2
+""",
+    "Part 9": """
+>>> from scooprow.rows import Row
+>>> from scooprow.watching import Watch
+>>> watch = Watch(Row([(0, 1)]), [(1, 2), (3, 1)])
+>>> (watch.look([(2, 0)]), watch.possible(), watch.sure(1, 0, 1), watch.probe())
+(4, [(0, 0), (0, 1), (1, 0), (2, 1)], 'open', 1)
+""",
 }
 
 
 class ExamplesTest(unittest.TestCase):
+    def check(self, part, text, least):
+        example = doctest.DocTestParser().get_doctest(text, {}, part, None, 0)
+        told = []
+        results = doctest.DocTestRunner(verbose=False).run(example, out=told.append)
+        self.assertEqual((results.failed, "".join(told)), (0, ""))
+        self.assertGreaterEqual(results.attempted, least)
+
     def test_examples(self):
         for part, text in EXAMPLES.items():
             with self.subTest(part):
-                example = doctest.DocTestParser().get_doctest(text, {}, part, None, 0)
-                told = []
-                results = doctest.DocTestRunner(verbose=False).run(example, out=told.append)
-                self.assertEqual((results.failed, "".join(told)), (0, ""))
-                self.assertGreater(results.attempted, 2)
+                self.check(part, text, 3)
+
+    def test_readme(self):
+        self.check("README.md", README.read_text(encoding="ascii").replace("```", ""), 10)
 
 
 if __name__ == "__main__":

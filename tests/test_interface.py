@@ -22,12 +22,23 @@ SIGNATURES = {
                 "sorted_after": "(row)", "runs": "(row)"},
     "times": {"seen": "(row, capacity, index)", "given_up": "(row, capacity, index)"},
     "walks": {"Walk": "(row, capacities)"},
+    "connecting": {"connect": "(row, other, *, backward=True)", "fewest": "(row, other)",
+                   "least_number": "(row, other)"},
+    "certificates": {"certificate": "(row, other, *, backward=True)",
+                     "is_certificate": "(row, other, value, *, backward=True)"},
+    "carriers": {"led_by": "(row, other, capacities)", "is_bar": "(row, other, capacities, value)",
+                 "loops": "(row, capacities)"},
+    "watching": {"Watch": "(row, limits)"},
 }
 METHODS = {
     ("rows", "Row"): {"held": "(self, index)", "capacity": "(self, index)", "total": "(self)",
                       "is_plain": "(self)", "__eq__": "(self, other)"},
     ("walks", "Walk"): {"step": "(self, k)", "swap": "(self, k)", "at": "(self, k)", "now": "(self)",
                         "ended": "(self)", "copy": "(self)"},
+    ("watching", "Watch"): {"look": "(self, counts)", "look_all": "(self, row)", "possible": "(self)",
+                            "outcomes": "(self)", "counts_at": "(self, index)", "many": "(self)",
+                            "history": "(self, vector)", "sure": "(self, capacity, low, high)",
+                            "probe": "(self)"},
 }
 LIBRARY = ["heapq", "math", "itertools", "collections"]
 
