@@ -18,12 +18,16 @@ def way(length, counts):
     return sum([many * min(capacity, length) for capacity, many in counts.items()])
 
 
+def moved(found, counts):
+    """The list of these trains after all these sweeps, in the same order."""
+    return [(length, offset + way(length, counts)) for length, offset in found]
+
+
 def advance(row, counts):
     """The row after all these sweeps."""
     if not is_counts(counts):
         raise BadCounts("the counts are not a dict from capacities to numbers of sweeps")
-    moved = [(length, offset + way(length, counts)) for length, offset in trains(row)]
-    return row_of(moved, row.capacities)
+    return row_of(moved(trains(row), counts), row.capacities)
 
 
 def picked_in_all(row, counts):

@@ -89,6 +89,26 @@ EXAMPLES = {
 >>> (watch.look([(2, 0)]), watch.possible(), watch.sure(1, 0, 1), watch.probe())
 (4, [(0, 0), (0, 1), (1, 0), (2, 1)], 'open', 1)
 """,
+    "Part 10": """
+>>> from scooprow.rows import Row
+>>> from scooprow.yards import Yard
+>>> yard = Yard()
+>>> yard.do(("put", "a", Row([(0, 1)])))
+>>> (yard.trains_of("a"), yard.do(("go", "a", ((1, 4),))), yard.trains_of("a"), yard.analyses())
+([(1, 0)], None, [(1, 4)], 1)
+""",
+    "Part 11": r"""
+>>> from scooprow.rows import Row
+>>> from scooprow.texts import counts_text, row_text
+>>> (row_text(Row([(3, 1), (0, 2)], [(0, 3)])), counts_text({9: -1, 2: 3}))
+('wide 0 3\nbox 0 2\nbox 3 1\n', '2 x 3, 9 x -1')
+""",
+    "Part 12": """
+>>> from scooprow.console import Console
+>>> console = Console()
+>>> [console.answer(line) for line in ["put a 0:1,1:1", "go a 9 2", "row a", "trains a", "drop b"]]
+['ok', 'ok', '4:1,5:1', '2:4', 'error BadName']
+""",
 }
 
 
