@@ -1,38 +1,50 @@
 """One box over all sweeps of one capacity, before and after."""
 
-from scooprow.advance import advance
+from scooprow.advance import moved
 from scooprow.errors import BadCapacity, BadIndex
 from scooprow.rows import Row, is_integer
-from scooprow.sweeps import is_capacity, mirrored
-from scooprow.trains import lengths, trains
+from scooprow.sweeps import is_capacity, mirrored, sweep
+from scooprow.trains import lengths, row_of, trains
 
 
 def _up_to(row, index):
-    """The row without the items behind the box at index."""
-    return Row([pair for pair in row.contents if pair[0] <= index], row.capacities)
+    """The row without what is behind the box at index."""
+    return Row([pair for pair in row.contents if pair[0] <= index],
+               [pair for pair in row.capacities if pair[0] <= index])
 
 
-def _has_reached(row, index):
-    return row.contents[-1][0] >= index
+def _last_indexes(found):
+    """For each of the trains of a plain row an index; the greatest is that of the last item.
 
-
-def _sweeps_to(row, capacity, index):
-    """The least number of sweeps after which an item lies at index or behind it.
-
-    The row has items, and all lie in front of the box at index.
+    The index of a train is where its last item would lie if it were the last of
+    all: the offset, two boxes further for each box that another train has up to
+    this length (the pairs that row_of puts in on the left), and its own length.
     """
-    # The last item lies at the last offset or behind it, but by less than this reach.
-    reach = 2 * row.total() + sum([wide for _, wide in row.capacities])
-    moving = [(offset, min(capacity, length)) for length, offset in trains(row)]
-    low = min([(index - reach - offset) // speed for offset, speed in moving])
-    high = min([-((offset - index) // speed) for offset, speed in moving])
-    while high - low > 1:
-        middle = (low + high) // 2
-        if _has_reached(advance(row, {capacity: middle}), index):
-            high = middle
-        else:
-            low = middle
-    return high
+    return [offset + 2 * sum([min(length, other) for other, _ in found]) - length - 1
+            for length, offset in found]
+
+
+def _calm_sweeps(found, capacity, index):
+    """The greatest number of sweeps after which all items still lie in front of index.
+
+    These are the trains of a row with all items and wide boxes in front of
+    index; behind its wide boxes its plain form has the same items.
+    """
+    return min([(index - 1 - last) // min(capacity, length)
+                for (length, _), last in zip(found, _last_indexes(found))])
+
+
+def _before_next(row, capacity, index):
+    """The pair (number of sweeps, row after them), just before an item comes to the box at index.
+
+    The row has items, and all lie in front of this box. Until one of them
+    comes to it, the box is as good as one that is not wide.
+    """
+    in_front = [pair for pair in row.capacities if pair[0] < index]
+    found = trains(Row(row.contents, in_front))
+    many = _calm_sweeps(found, capacity, index)
+    near = row_of(moved(found, {capacity: many}), in_front)
+    return (many, Row(near.contents, row.capacities))
 
 
 def _seen_from_now(row, capacity, index):
@@ -42,13 +54,13 @@ def _seen_from_now(row, capacity, index):
     # What lies behind the box does not come back to it.
     rest = _up_to(row, index)
     while rest.contents:
-        more = 1
         if rest.held(index) > 0:
             found.append((done, rest.held(index)))
         else:
-            more = _sweeps_to(rest, capacity, index)
-        done += more
-        rest = _up_to(advance(rest, {capacity: more}), index)
+            many, rest = _before_next(rest, capacity, index)
+            done += many
+        rest = _up_to(sweep(rest, capacity), index)
+        done += 1
     return found
 
 

@@ -103,6 +103,32 @@ class SeenTest(unittest.TestCase):
                 for capacity in (1, 2, 50):
                     self.check_around(row, capacity, index, seen(row, capacity, index))
 
+    def test_wide_boxes_all_around(self):
+        source = random.Random(61)
+        for _ in range(40):
+            capacities = [(index, source.randint(2, 9)) for index in source.sample(range(-8, 9), 6)]
+            wide = dict(capacities)
+            items = {index: source.randint(1, wide.get(index, 1)) for index in source.sample(range(-12, 13), 4)}
+            row = Row(list(items.items()), capacities)
+            capacity = source.choice((1, 2, 4, 99))
+            after = states(row, capacity)
+            for index in [index for index, _ in capacities[:2]] + [source.randint(-15, 15)]:
+                expected = [(many, now.held(index)) for many, now in after if now.held(index) > 0]
+                self.assertEqual(seen(row, capacity, index), expected)
+
+    def test_forty_items_all_far_apart(self):
+        capacities = [(-3, 9), (60, 9), (5, 8), (7, 9), (9, 9), (-60, 9)]
+        row = Row([(10 ** 28 * place, 1) for place in range(-20, 20)], capacities)
+        for index in (7, -60, 60, 6, 10 ** 28):
+            found = seen(row, 1, index)
+            self.assertEqual(len(found), 40)
+            self.check_around(row, 1, index, found)
+        wide = Row([(0, 9), (3, 9), (5, 9), (6, 9), (9, 4)], [(index, 9) for index in (0, 3, 5, 6, 9)])
+        self.check_around(wide, 1, FAR, seen(wide, 1, FAR))
+        self.check_around(wide, 99, -FAR, seen(wide, 99, -FAR))
+        row = Row([(place, 1) for place in range(40)])
+        self.assertEqual(seen(row, 1, FAR // 10), [(FAR // 10 - 39 + place, 1) for place in range(40)])
+
     def check_around(self, row, capacity, index, found):
         """That the box has these numbers of items, and none just before and after."""
         counts = dict(found)
